@@ -1,0 +1,1 @@
+"""Disputes about a run: a judge finds out by halving which host said what isn't so."""
