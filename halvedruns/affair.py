@@ -28,8 +28,15 @@ class Affair:
     def has_turn(self, turn):
         return 0 <= turn <= self.turns
 
+    def has_host_and_turn(self, number, turn):
+        return self.has_host(number) and self.has_turn(turn)
+
     def has_dispute(self, number):
         return 0 <= number <= len(self.disputes)
+
+    def has_pair(self, number):
+        """Whether it is the number of a dispute of two hosts, so not of the opening."""
+        return number != 0 and self.has_dispute(number)
 
     def dispute_at(self, number):
         return self.opening if number == 0 else self.disputes[number - 1]
@@ -44,8 +51,14 @@ class Affair:
         """What was heard of the host for that turn; None if nothing was."""
         return self.hosts[number].heard.get(turn)
 
+    def how_much_heard(self):
+        return sum([len(host.heard) for host in self.hosts])
+
+    def open_disputes(self):
+        return [dispute for dispute in self.disputes if dispute.is_open()]
+
     def open_disputes_of(self, number):
-        return [dispute for dispute in self.disputes if dispute.is_open() and number in dispute.hosts]
+        return [dispute for dispute in self.open_disputes() if number in dispute.hosts]
 
     def are_in_dispute(self, x, y):
         return any([y in dispute.hosts for dispute in self.open_disputes_of(x)])

@@ -1,24 +1,26 @@
-"""The calls: what refuses each of them, what it does, and what it answers."""
+"""The calls that do something: what refuses each of them, what it does, and what it answers."""
 
 from halvedruns.affair import Affair
 from halvedruns.line import Line
 from halvedruns.line import Word
+from halvedruns.reading import FIRST_READING
+from halvedruns.reading import answer_reading
+from halvedruns.replies import ASKED_TOO_SELDOM
+from halvedruns.replies import HEARD_OR_NOT
+from halvedruns.replies import HOST_IS_OUT
+from halvedruns.replies import LIKE_OR_UNLIKE
+from halvedruns.replies import LINE_IS_FULL
+from halvedruns.replies import LOST_ENOUGH
+from halvedruns.replies import NOT_AS_TOLD
+from halvedruns.replies import NOT_NOW
+from halvedruns.replies import NO_AFFAIR
+from halvedruns.replies import NO_PAIR
+from halvedruns.replies import NO_SUCH
+from halvedruns.replies import STILL_ON_LINE
+from halvedruns.replies import behind_count
 from halvedruns.run import Run
 from halvedruns.run import are_first_numbers
 from halvedruns.run import is_program
-
-NOT_AS_TOLD = -1
-NO_AFFAIR = -2
-NOT_NOW = -3
-HEARD_OR_NOT = -4
-LINE_IS_FULL = -5
-NO_SUCH = -6
-LOST_ENOUGH = -7
-ASKED_TOO_SELDOM = -8
-STILL_ON_LINE = -9
-HOST_IS_OUT = -10
-NO_PAIR = -11
-LIKE_OR_UNLIKE = -12
 
 
 class Bench:
@@ -50,10 +52,6 @@ def call_new(bench, numbers, rows):
     return [n]
 
 
-def is_turn_of_host(affair, numbers):
-    return affair.has_host(numbers[0]) and affair.has_turn(numbers[1])
-
-
 def tell(affair, numbers, state):
     host = affair.hosts[numbers[0]]
     host.tell(numbers[1], state)
@@ -62,19 +60,19 @@ def tell(affair, numbers, state):
 
 def call_lie(bench, numbers, rows):
     affair = bench.affair
-    if not (is_turn_of_host(affair, numbers) and affair.run.is_state(rows[0])):
+    if not (affair.has_host_and_turn(numbers[0], numbers[1]) and affair.run.is_state(rows[0])):
         return [NOT_AS_TOLD]
     return tell(affair, numbers, tuple(rows[0]))
 
 
 def call_mute(bench, numbers, rows):
-    if not is_turn_of_host(bench.affair, numbers):
+    if not bench.affair.has_host_and_turn(numbers[0], numbers[1]):
         return [NOT_AS_TOLD]
     return tell(bench.affair, numbers, None)
 
 
 def call_honest(bench, numbers, rows):
-    if not is_turn_of_host(bench.affair, numbers):
+    if not bench.affair.has_host_and_turn(numbers[0], numbers[1]):
         return [NOT_AS_TOLD]
     host = bench.affair.hosts[numbers[0]]
     host.take_back(numbers[1])
@@ -205,7 +203,7 @@ def call_close(bench, numbers, rows):
     if ends.count(ends[0]) < len(ends):
         return [LIKE_OR_UNLIKE]
     affair.end_found = True
-    return [len(ends), len(ends[0])] + list(ends[0])
+    return [len(ends)] + behind_count(ends[0])
 
 
 CALLS = {
@@ -223,11 +221,14 @@ CALLS = {
     11: call_close,
 }
 
-CALLS_WITHOUT_AFFAIR = (0, 1, 9)
+# clear, new, double, line, word and counts.
+CALLS_WITHOUT_AFFAIR = (0, 1, 9, 12, 13, 21)
 
 
 def answer(bench, call, numbers, rows):
     if bench.affair is None and call not in CALLS_WITHOUT_AFFAIR:
         return [NO_AFFAIR]
+    if call >= FIRST_READING:
+        return answer_reading(bench, call, numbers, rows)
     perform = CALLS[call]
     return perform(bench, numbers, rows)

@@ -1,7 +1,6 @@
 """Calls as lists of numbers, and their answers one by one."""
 
-from halvedruns.calls import Bench
-from halvedruns.judge import Reader, answer_next, answers
+from halvedruns.judge import answers
 
 BIG = 10 ** 18
 
@@ -61,6 +60,64 @@ def close():
     return [11]
 
 
+def read_line():
+    return [12]
+
+
+def read_word(word):
+    return [13, word]
+
+
+def read_dispute(number):
+    return [14, number]
+
+
+def read_agreed(number):
+    return [15, number]
+
+
+def read_truth(turn):
+    return [16, turn]
+
+
+def read_heard(host, turn):
+    return [17, host, turn]
+
+
+def read_says(host, turn):
+    return [18, host, turn]
+
+
+def read_host(host):
+    return [19, host]
+
+
+def read_affair():
+    return [20]
+
+
+def read_counts():
+    return [21]
+
+
+def work(state):
+    return [22, len(state), *state]
+
+
+def readings(turns=3, n=3, disputes=3, words=4):
+    """Every call that only looks, at all that there may be, and a bit beyond."""
+    calls = [read_line(), read_affair(), read_counts(), work((0, 7, 9)), work((0, 7))]
+    calls += [read_word(word) for word in range(-1, words + 1)]
+    for number in range(-1, disputes + 2):
+        calls += [read_dispute(number), read_agreed(number)]
+    for turn in range(-1, turns + 2):
+        calls.append(read_truth(turn))
+        for host in range(-1, n + 1):
+            calls += [read_heard(host, turn), read_says(host, turn)]
+    calls += [read_host(host) for host in range(-1, n + 1)]
+    return calls
+
+
 def split(given):
     """The answers, a list each."""
     parts = []
@@ -81,19 +138,6 @@ def last(*calls):
     return ask(*calls)[-1]
 
 
-def bench_after(*calls):
-    """What is kept behind these calls, for what no answer of theirs tells."""
-    reader = Reader([number for call in calls for number in call])
-    bench = Bench()
-    while not reader.is_done():
-        answer_next(bench, reader)
-    return bench
-
-
-def affair_after(*calls):
-    return bench_after(*calls).affair
-
-
 def counting_state(turn):
     return (0, 1 + turn, 1)
 
@@ -107,6 +151,10 @@ class Script:
     def do(self, call):
         self.calls.append(call)
         return last(*self.calls)
+
+    def sees(self, call):
+        """The answer to a call that only looks, and is not kept."""
+        return last(*self.calls, call)
 
     def hears(self, dispute, host):
         """Asks the host and lets the question and its answer come; gives back the turn."""

@@ -5,7 +5,8 @@ import io
 import unittest
 
 from halvedruns.judge import answers
-from tests.helper import BIG, ask, clear, close, deliver, double, honest, hush, lie, lose, mute, new, pair, say
+from tests.helper import (BIG, ask, clear, close, deliver, double, honest, hush, lie, lose, mute, new, pair,
+                          read_affair, read_agreed, read_counts, read_dispute, read_host, readings, say)
 
 EXAMPLE = [
     new(), lie(1, 5, (0, 99, 1)), lie(1, 6, (0, 99, 1)), lie(1, 7, (0, 99, 1)), lie(1, 8, (0, 99, 1)),
@@ -23,6 +24,10 @@ EXAMPLE_ANSWERS = [
     [12, 5], [13, 5], [2], [2], [1], [0],
     [-10], [-3], [1, 3, 0, 9, 1],
 ]
+
+# With every call there is.
+ALL_CALLS = EXAMPLE + readings(turns=8) + [new(), mute(0, 3), honest(0, 3), say(0, 0), double(0), lose(0), hush(0, 0),
+                                           clear()]
 
 
 def flat(calls):
@@ -51,18 +56,18 @@ class Interface(unittest.TestCase):
             1, 0, 1, 2, 2, 0, 1, 2, 1, 1, 1, 2, 1, 2, 1, 1, 1, 0, 5, 2, 3, 0, 2, 1, 1, -3])
 
     def test_the_answer_is_a_list_of_whole_numbers(self):
-        given = answers(flat(EXAMPLE))
+        given = answers(flat(ALL_CALLS))
         self.assertIs(type(given), list)
         self.assertEqual({type(number) for number in given}, {int})
 
     def test_what_is_handed_in_is_not_changed(self):
-        calls = Untouchable(flat(EXAMPLE))
+        calls = Untouchable(flat(ALL_CALLS))
         before = list(calls)
         answers(calls)
         self.assertEqual(list(calls), before)
 
     def test_a_second_time_answers_as_the_first(self):
-        calls = flat(EXAMPLE)
+        calls = flat(ALL_CALLS)
         first = answers(calls)
         kept = list(first)
         answers(flat([new(turns=3, n=6), say(0, 5), say(0, 4)]))
@@ -77,8 +82,17 @@ class Interface(unittest.TestCase):
     def test_nothing_is_printed(self):
         out = io.StringIO()
         with contextlib.redirect_stdout(out), contextlib.redirect_stderr(out):
-            answers(flat(EXAMPLE))
+            answers(flat(ALL_CALLS))
         self.assertEqual(out.getvalue(), "")
+
+    def test_every_call_is_among_all_calls(self):
+        self.assertEqual(sorted({call[0] for call in ALL_CALLS}), list(range(23)))
+
+    def test_the_documents_example_looked_at(self):
+        self.assertEqual(ask(*EXAMPLE, read_dispute(1), read_agreed(1), read_host(0), read_host(1), read_affair(),
+                             read_counts())[len(EXAMPLE):],
+                         [[5, 0, 1, 4, 5, 1, 1, 3, 0, 1, 2], [4, 3, 0, 5, 1], [15, 0, 0, 1, 0], [0, 1, 4, 1, 0],
+                          [8, 1, 2, 1, 1, 0, 0, 5, 1, 8], [16, 0, 16, 0]])
 
     def test_without_an_affair(self):
         for wrong in (0, -1, 7, BIG, -BIG):
